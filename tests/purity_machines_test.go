@@ -17,10 +17,13 @@ func evenMachine(m impl.Machine) impl.Machine {
 	return m
 }
 
-// even makes nil lists empty, also those of a machine.
+// even makes nil lists empty, also those of a machine or a network.
 func even(result any) any {
-	if m, ok := result.(impl.Machine); ok {
-		return evenMachine(m)
+	switch result := result.(type) {
+	case impl.Machine:
+		return evenMachine(result)
+	case impl.Network:
+		return evenNet(result)
 	}
 	if v := reflect.ValueOf(result); v.Kind() == reflect.Slice && v.Len() == 0 {
 		return reflect.MakeSlice(v.Type(), 0, 0).Interface()
@@ -138,7 +141,7 @@ func rawResults(m impl.Machine) []any {
 	return append(all, late, pruned, again)
 }
 
-// overwrite fills a list, or those of a machine, with other values.
+// overwrite fills a list, or those of a machine or a network, with other values.
 func overwrite(result any) {
 	switch list := result.(type) {
 	case []impl.Push:
@@ -153,6 +156,8 @@ func overwrite(result any) {
 		clear(list.Board.Pieces[:cap(list.Board.Pieces)])
 		clear(list.Inputs[:cap(list.Inputs)])
 		clear(list.Outputs[:cap(list.Outputs)])
+	case impl.Network:
+		overwriteNet(list)
 	}
 }
 
