@@ -238,20 +238,53 @@ func TestNarrowSpan(t *testing.T) {
 	}
 }
 
-// There may be any number of spans, and any others beside that one, as there is no board for which they are to be valid.
-func TestNarrowAnySpans(t *testing.T) {
+// There may be any number of spans, as there is no board for which they are to be valid.
+func TestNarrowManySpans(t *testing.T) {
 	for _, count := range []int{1, 60, 61, 100000} {
 		spans := manySpans(count, 1, 9)
 		narrow, c := impl.NarrowSpan(spans, int64(count-1), 3, 4)
 		listIs(t, "many", narrow, c, append(manySpans(count-1, 1, 9), spanOf(3, 4))...)
+		narrow, c = impl.NarrowSpan(spans, int64(count), 3, 4)
+		listFails(t, "many, no such index", narrow, c, impl.ErrRange)
+		narrow, c = impl.NarrowSpan(manySpans(count, 3, 4), 0, 3, 5)
+		listFails(t, "many, not within", narrow, c, impl.ErrState)
 	}
-	odd := []impl.Span{spanOf(-5, 99), spanOf(7, 3), spanOf(2, 4)}
-	narrow, c := impl.NarrowSpan(odd, 2, 3, 3)
-	listIs(t, "beside others", narrow, c, spanOf(-5, 99), spanOf(7, 3), spanOf(3, 3))
-	narrow, c = impl.NarrowSpan(odd, 0, 1, 9)
-	listIs(t, "within", narrow, c, spanOf(1, 9), spanOf(7, 3), spanOf(2, 4))
-	narrow, c = impl.NarrowSpan(odd, 1, 4, 5)
-	listFails(t, "within none", narrow, c, impl.ErrState)
+}
+
+// invalidToNarrow fails the test if NarrowSpan gives another code than ErrInvalid, whatever else is wrong.
+func invalidToNarrow(t *testing.T, name string, spans []impl.Span) {
+	t.Helper()
+	for _, i := range []int64{0, 1, int64(len(spans)) - 1, -1, int64(len(spans)), least, greatest} {
+		for _, bounds := range [][2]int64{{2, 2}, {1, 9}, {0, 3}, {-5, -2}, {3, 2}, {1, 10}, {9, 127}, {least, greatest}} {
+			narrow, c := impl.NarrowSpan(spans, i, bounds[0], bounds[1])
+			listFails(t, name, narrow, c, impl.ErrInvalid)
+		}
+	}
+}
+
+// ErrInvalid comes first, whichever span is not valid, and also if it is the one that becomes another one.
+func TestNarrowInvalidSpans(t *testing.T) {
+	for name, spans := range badBounds() {
+		invalidToNarrow(t, name, spans)
+	}
+	for low := int8(-2); low <= 11; low++ {
+		for high := int8(-2); high <= 11; high++ {
+			s := spanOf(low, high)
+			if low < 1 || low > high || high > 9 {
+				invalidToNarrow(t, "alone", []impl.Span{s})
+				continue
+			}
+			narrow, c := impl.NarrowSpan([]impl.Span{s}, 0, int64(high), int64(high))
+			listIs(t, "valid", narrow, c, spanOf(high, high))
+		}
+	}
+	for _, count := range []int{60, 61, 100000} {
+		for _, at := range []int{0, count / 2, count - 1} {
+			spans := manySpans(count, 1, 9)
+			spans[at] = spanOf(3, 2)
+			invalidToNarrow(t, "many", spans)
+		}
+	}
 }
 
 func TestSpansText(t *testing.T) {

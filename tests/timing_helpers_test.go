@@ -269,14 +269,10 @@ func choicesOf(spans []impl.Span) int {
 	return count
 }
 
-// badSpans are lists of spans that are not valid for a board of three pieces, each for one reason.
-func badSpans() map[string][]impl.Span {
+// badBounds are lists of three spans, one of which is not valid, each for one reason.
+func badBounds() map[string][]impl.Span {
 	good := spanOf(1, 9)
 	return map[string][]impl.Span{
-		"none":            nil,
-		"too few":         {good, good},
-		"too many":        {good, good, good, good},
-		"far too many":    manySpans(1000, 1, 1),
 		"low of 0":        {good, spanOf(0, 3), good},
 		"low below":       {spanOf(-1, 3), good, good},
 		"least low":       {good, good, spanOf(-128, 9)},
@@ -288,4 +284,14 @@ func badSpans() map[string][]impl.Span {
 		"both below":      {good, spanOf(-5, -2), good},
 		"greatest, least": {good, good, spanOf(127, -128)},
 	}
+}
+
+// badSpans are lists of spans that are not valid for a board of three pieces, each for one reason.
+func badSpans() map[string][]impl.Span {
+	bad, good := badBounds(), spanOf(1, 9)
+	bad["none"] = nil
+	bad["too few"] = []impl.Span{good, good}
+	bad["too many"] = []impl.Span{good, good, good, good}
+	bad["far too many"] = manySpans(1000, 1, 1)
+	return bad
 }
