@@ -42,6 +42,35 @@ func boardFails(t *testing.T, name string, got impl.Board, gotCode, want int64) 
 	}
 }
 
+// evened makes nil lists in the results of several calls empty, also those of boards.
+func evened(all [][]any) [][]any {
+	for _, results := range all {
+		for i := range results {
+			results[i] = even(results[i])
+			if b, ok := results[i].(impl.Board); ok {
+				results[i] = evenBoard(b)
+			}
+		}
+	}
+	return all
+}
+
+// zeroBeside fails the test if anything but zero values is beside a code other than OK, which is the last one of the results; it returns the code.
+func zeroBeside(t *testing.T, results []any) int64 {
+	t.Helper()
+	last := len(results) - 1
+	code := results[last].(int64)
+	if code == impl.OK {
+		return code
+	}
+	for _, result := range results[:last] {
+		v := reflect.ValueOf(result)
+		zero := v.IsZero() || v.Kind() == reflect.Slice && v.Len() == 0
+		same(t, "zero", zero || reflect.DeepEqual(result, evenBoard(impl.Board{})), true)
+	}
+	return code
+}
+
 func cell(x, y int8) impl.Cell { return impl.Cell{x, y} }
 
 func pieceOf(x, y, kind, turn, delay int8) impl.Piece {

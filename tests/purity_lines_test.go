@@ -1,7 +1,6 @@
 package tests
 
 import (
-	"reflect"
 	"slices"
 	"strings"
 	"sync"
@@ -55,15 +54,7 @@ func evenBoard(b impl.Board) impl.Board {
 
 // chapter5 calls every function of the chapter, nil lists being made empty.
 func chapter5(a lineArgs) [][]any {
-	all := rawChapter5(a)
-	for _, results := range all {
-		for i := range results {
-			results[i] = even(results[i])
-			if b, ok := results[i].(impl.Board); ok {
-				results[i] = evenBoard(b)
-			}
-		}
-	}
+	all := evened(rawChapter5(a))
 	return append(all, []any{impl.ValidWay(a.board, a.way), impl.WayText(a.way), int64(impl.OK)})
 }
 
@@ -231,16 +222,7 @@ func TestChapter5ZeroResults(t *testing.T) {
 	all = append(all, lineArgs{board: fullBoard(24, 10, 200), way: wayOf(0, 9, west, 3, 9, east), list: []impl.Way{wayOf(0, 9, west, 3, 9, east)}, number: 9})
 	for _, a := range all {
 		for _, results := range chapter5(a) {
-			last := len(results) - 1
-			codes[results[last].(int64)]++
-			if results[last] == int64(impl.OK) {
-				continue
-			}
-			for _, result := range results[:last] {
-				v := reflect.ValueOf(result)
-				zero := v.IsZero() || v.Kind() == reflect.Slice && v.Len() == 0
-				same(t, "zero", zero || reflect.DeepEqual(result, evenBoard(impl.Board{})), true)
-			}
+			codes[zeroBeside(t, results)]++
 		}
 	}
 	for _, c := range []int64{impl.ErrInvalid, impl.ErrRange, impl.ErrState, impl.ErrSyntax, impl.ErrNotFound} {

@@ -1,7 +1,6 @@
 package tests
 
 import (
-	"reflect"
 	"slices"
 	"strings"
 	"sync"
@@ -47,15 +46,7 @@ func rawChapter6(a timingArgs) [][]any {
 
 // chapter6 calls every function of the chapter, nil lists being made empty.
 func chapter6(a timingArgs) [][]any {
-	all := rawChapter6(a)
-	for _, results := range all {
-		for i := range results {
-			results[i] = even(results[i])
-			if b, ok := results[i].(impl.Board); ok {
-				results[i] = evenBoard(b)
-			}
-		}
-	}
+	all := evened(rawChapter6(a))
 	one, fits := impl.Window{}, []any{}
 	if len(a.windows) > 0 {
 		one = a.windows[len(a.windows)-1]
@@ -213,16 +204,7 @@ func TestChapter6ZeroResults(t *testing.T) {
 	codes := map[int64]int{}
 	for _, a := range variedTiming() {
 		for _, results := range rawChapter6(a) {
-			last := len(results) - 1
-			codes[results[last].(int64)]++
-			if results[last] == int64(impl.OK) {
-				continue
-			}
-			for _, result := range results[:last] {
-				v := reflect.ValueOf(result)
-				zero := v.IsZero() || v.Kind() == reflect.Slice && v.Len() == 0
-				same(t, "zero", zero, true)
-			}
+			codes[zeroBeside(t, results)]++
 		}
 	}
 	for _, c := range []int64{impl.ErrInvalid, impl.ErrRange, impl.ErrLimit, impl.ErrState, impl.ErrSyntax, impl.ErrNotFound} {
